@@ -85,6 +85,7 @@ func TestCheckFaults(t *testing.T) {
 		{func(f *api.File) { f.ID = math.MinInt }, api.ErrRange},
 		{func(f *api.File) { f.ID = api.MaxID + 1 }, api.ErrRange},
 		{func(f *api.File) { f.Opened = -1 }, api.ErrRange},
+		{func(f *api.File) { f.Opened = 0 }, api.ErrNotFound},
 		{func(f *api.File) { f.Opened = math.MinInt }, api.ErrRange},
 		{func(f *api.File) { f.Opened, f.Closed, f.Notes = api.MaxDay+1, api.MaxDay+1, nil }, api.ErrRange},
 		{func(f *api.File) { f.Opened = 31 }, api.ErrRange},
@@ -216,6 +217,7 @@ func TestCheckFirst(t *testing.T) {
 		{nil, plans, some(), 0, api.ErrNotFound},
 		{offices, nil, some(), 0, api.ErrNoPlan},
 		{offices, plans, []api.File{one(2), one(2)}, 1, api.ErrOrder},
+		{offices, plans, []api.File{one(5), one(3)}, 1, api.ErrOrder},
 		{offices, plans, []api.File{one(api.MaxID)}, -1, api.OK},
 		{offices, plans, []api.File{one(api.MaxID - 1), one(api.MaxID), one(api.MaxID + 1)}, 2, api.ErrRange},
 	} {

@@ -55,3 +55,30 @@ func TestHas(t *testing.T) {
 		}
 	}
 }
+
+// P6.4, P9.4, P10.3: a span can end on a day greater than its From and at most its Until.
+func TestCanEnd(t *testing.T) {
+	for _, x := range []struct {
+		s    api.Span
+		day  int
+		want bool
+	}{
+		{api.Span{From: 3, Until: 5}, 2, false},
+		{api.Span{From: 3, Until: 5}, 3, false},
+		{api.Span{From: 3, Until: 5}, 4, true},
+		{api.Span{From: 3, Until: 5}, 5, true},
+		{api.Span{From: 3, Until: 5}, 6, false},
+		{api.Span{From: 3, Until: 4}, 4, true},
+		{api.Span{From: 0, Until: api.Forever}, 0, false},
+		{api.Span{From: 0, Until: api.Forever}, 1, true},
+		{api.Span{From: 0, Until: api.Forever}, api.MaxDay, true},
+		{api.Span{From: 0, Until: api.Forever}, api.Forever, true},
+		{api.Span{From: 0, Until: api.Forever}, api.Forever + 1, false},
+		{api.Span{From: 0, Until: api.Forever}, math.MaxInt, false},
+		{api.Span{From: 0, Until: api.Forever}, math.MinInt, false},
+	} {
+		if got := span.CanEnd(x.s, x.day); got != x.want {
+			t.Error(x.s, x.day, got)
+		}
+	}
+}

@@ -1,0 +1,24 @@
+// Package number says which numbers are IDs or within other bounds, and reads them from texts: see the rules of shared/DOC.md.
+package number
+
+import (
+	"strconv"
+
+	"archivum/api"
+)
+
+// From returns whether a number is one from the least to the greatest one.
+func From(n, least, greatest int) bool { return least <= n && n <= greatest }
+
+// IsID returns whether a number can be an ID.
+func IsID(n int) bool { return From(n, 1, api.MaxID) }
+
+// Parse returns the number from 0 to MaxID that has a text.
+func Parse(text string) (int, bool) {
+	n, err := strconv.Atoi(text)
+	// Atoi admits signs and leading zeros, which would give a number a second text.
+	if err != nil || !From(n, 0, api.MaxID) || strconv.Itoa(n) != text {
+		return 0, false
+	}
+	return n, true
+}
