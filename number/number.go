@@ -17,7 +17,7 @@ func IsID(n int) bool { return From(n, 1, api.MaxID) }
 func Parse(text string) (int, bool) {
 	n, err := strconv.Atoi(text)
 	// Atoi admits signs and leading zeros, which would give a number a second text.
-	if err != nil || !From(n, 0, api.MaxID) || strconv.Itoa(n) != text {
+	if err != nil || !From(n, 0, api.MaxID) || text != "0" && text[0] < '1' {
 		return 0, false
 	}
 	return n, true
