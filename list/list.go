@@ -1,4 +1,4 @@
-// Package list checks lists whose elements are checked one after the other.
+// Package list checks lists: their elements, one after the other, and their order.
 package list
 
 import "archivum/api"
@@ -14,4 +14,14 @@ func Check[T any](l []T, most int, checkNext func(before []T, x T) api.Errno) (i
 		}
 	}
 	return -1, api.OK
+}
+
+// Increase returns whether the elements of a list increase strictly.
+func Increase[T any](l []T, compare func(a, b T) int) bool {
+	for i := 1; i < len(l); i++ {
+		if compare(l[i-1], l[i]) >= 0 {
+			return false
+		}
+	}
+	return true
 }

@@ -1,6 +1,7 @@
 package list_test
 
 import (
+	"cmp"
 	"slices"
 	"testing"
 
@@ -49,5 +50,27 @@ func TestCheckBefore(t *testing.T) {
 	})
 	if at != 2 || e != api.ErrGap || !slices.Equal(seen, l[:3]) {
 		t.Error(at, e, seen)
+	}
+}
+
+// P7.1, P11.1: each element is greater than the one before.
+func TestIncrease(t *testing.T) {
+	for i, x := range []struct {
+		l    []int
+		want bool
+	}{
+		{nil, true},
+		{[]int{5}, true},
+		{[]int{5, 6}, true},
+		{[]int{5, 5}, false},
+		{[]int{6, 5}, false},
+		{[]int{-3, 0, 9, 10}, true},
+		{[]int{-3, 0, 0, 10}, false},
+		{[]int{1, 2, 3, 3}, false},
+		{[]int{2, 1, 3, 4}, false},
+	} {
+		if got := list.Increase(x.l, cmp.Compare); got != x.want {
+			t.Error(i, got)
+		}
 	}
 }

@@ -1,0 +1,71 @@
+// Package fate says what has become of a file, and what the rules say about it: see the definitions of shared/doc/11-verdict.md. All registries are ones without a fault.
+package fate
+
+import (
+	"slices"
+
+	"archivum/api"
+	"archivum/file"
+	"archivum/rule"
+)
+
+// Entry is an entry about a file: its day, and the number of the certificate or of the sample (a departure has none).
+type Entry struct{ Number, Day int }
+
+// Destroyed returns the entry by which a file was destroyed, if this was on a day or before it.
+func Destroyed(r api.Registry, id, by int) (Entry, bool) {
+	for _, c := range r.Certificates {
+		if c.Day <= by && slices.Contains(c.Files, id) {
+			return Entry{c.Number, c.Day}, true
+		}
+	}
+	return Entry{}, false
+}
+
+// Transferred returns the entry by which a file was transferred, if this was on a day or before it.
+func Transferred(r api.Registry, id, by int) (Entry, bool) {
+	for _, d := range r.Departures {
+		if d.Day <= by && d.File == id {
+			return Entry{Day: d.Day}, true
+		}
+	}
+	return Entry{}, false
+}
+
+// Selected returns the first entry by which a file was selected, if this was on a day or before it.
+func Selected(r api.Registry, id, by int) (Entry, bool) {
+	for _, s := range r.Selections {
+		if s.Day <= by && slices.Contains(s.Files, id) {
+			return Entry{s.Sample, s.Day}, true
+		}
+	}
+	return Entry{}, false
+}
+
+// Term is a rule that applies to a file on a day. It has started if the file has its trigger, which then has the dating Start; the file is kept up to the day Due.
+type Term struct {
+	Rule    api.Rule
+	Started bool
+	Start   api.Dating
+	Due     int
+}
+
+// Terms returns the terms of a file on a day, in the order of the rules.
+func Terms(r api.Registry, f api.File, day int) []Term {
+	// Without a class the code is empty, and no rule applies to that.
+	class, _ := file.Class(r.Plans, f, day)
+	var terms []Term
+	for _, id := range rule.Apply(r.Rules, class, day) {
+		terms = append(terms, termOf(r.Rules[rule.Find(r.Rules, id)], f, day))
+	}
+	return terms
+}
+
+func termOf(x api.Rule, f api.File, day int) Term {
+	start, ok := file.Trigger(f, x.Trigger, day)
+	if !ok {
+		return Term{Rule: x}
+	}
+	due, _ := rule.Due(x, start)
+	return Term{Rule: x, Started: true, Start: start, Due: due}
+}

@@ -1,0 +1,81 @@
+package fate_test
+
+import (
+	"reflect"
+	"testing"
+
+	"archivum/api"
+	"archivum/fate"
+)
+
+var always = api.Span{From: 0, Until: api.Forever}
+
+// some returns a registry in which the file 1 was destroyed, 3 transferred, and both were selected.
+func some() api.Registry {
+	return api.Registry{
+		Plans: []api.Plan{{Version: 1, In: api.Span{From: 0, Until: 80}, Classes: []api.Class{{Code: "1", Title: "Mills"}, {Code: "2", Title: "Weirs"}}}},
+		Rules: []api.Rule{
+			{ID: 2, Class: "1", Trigger: "paid", Action: api.ActionDestroy, In: always},
+			{ID: 4, Class: "2", Trigger: "opened", Action: api.ActionDestroy, In: always},
+			{ID: 6, Class: "1", Trigger: "closed", Years: 1, Action: api.ActionTransfer, In: api.Span{From: 0, Until: 60}},
+		},
+		Selections:   []api.Selection{{Sample: 5, Day: 20, Files: []int{3}}, {Sample: 6, Day: 30, Files: []int{1, 3}}},
+		Certificates: []api.Certificate{{Number: 1, Day: 40}, {Number: 2, Day: 50, Files: []int{1, 5}}},
+		Departures:   []api.Departure{{File: 7, Day: 60}, {File: 3, Day: 70}},
+	}
+}
+
+// P11.2, P12.1: what was entered about a file counts from its day on, and the first selection counts.
+func TestEntries(t *testing.T) {
+	for i, x := range []struct {
+		find   func(r api.Registry, id, by int) (fate.Entry, bool)
+		id, by int
+		want   fate.Entry
+		ok     bool
+	}{
+		{fate.Destroyed, 1, 49, fate.Entry{}, false},
+		{fate.Destroyed, 1, 50, fate.Entry{Number: 2, Day: 50}, true},
+		{fate.Destroyed, 5, api.MaxDay, fate.Entry{Number: 2, Day: 50}, true},
+		{fate.Destroyed, 3, api.MaxDay, fate.Entry{}, false},
+		{fate.Transferred, 3, 69, fate.Entry{}, false},
+		{fate.Transferred, 3, 70, fate.Entry{Day: 70}, true},
+		{fate.Transferred, 7, api.MaxDay, fate.Entry{Day: 60}, true},
+		{fate.Transferred, 1, api.MaxDay, fate.Entry{}, false},
+		{fate.Selected, 3, 19, fate.Entry{}, false},
+		{fate.Selected, 3, 20, fate.Entry{Number: 5, Day: 20}, true},
+		{fate.Selected, 3, 30, fate.Entry{Number: 5, Day: 20}, true},
+		{fate.Selected, 1, 29, fate.Entry{}, false},
+		{fate.Selected, 1, 30, fate.Entry{Number: 6, Day: 30}, true},
+		{fate.Selected, 7, api.MaxDay, fate.Entry{}, false},
+	} {
+		if got, ok := x.find(some(), x.id, x.by); got != x.want || ok != x.ok {
+			t.Error(i, got, ok)
+		}
+	}
+}
+
+// P11.2, P12.1: the terms of a file are those of the rules that apply; without its trigger a term has no dating and no due day.
+func TestTerms(t *testing.T) {
+	r := some()
+	f := api.File{ID: 1, Opened: 5, Closed: 10, Class: "1", Notes: []api.Note{{Name: "paid", Day: api.Dating{First: 8, Last: 9}, Recorded: 30}}}
+	paid := fate.Term{Rule: r.Rules[0], Started: true, Start: api.Dating{First: 8, Last: 9}, Due: 9}
+	closed := fate.Term{Rule: r.Rules[2], Started: true, Start: api.Dating{First: 10, Last: 10}, Due: 376}
+	for i, x := range []struct {
+		day  int
+		want []fate.Term
+	}{
+		{0, []fate.Term{{Rule: r.Rules[0]}, {Rule: r.Rules[2]}}},
+		{9, []fate.Term{{Rule: r.Rules[0]}, {Rule: r.Rules[2]}}},
+		{10, []fate.Term{{Rule: r.Rules[0]}, closed}},
+		{29, []fate.Term{{Rule: r.Rules[0]}, closed}},
+		{30, []fate.Term{paid, closed}},
+		{59, []fate.Term{paid, closed}},
+		{60, []fate.Term{paid}},
+		{79, []fate.Term{paid}},
+		{80, nil},
+	} {
+		if got := fate.Terms(r, f, x.day); !reflect.DeepEqual(got, x.want) {
+			t.Error(i, got)
+		}
+	}
+}
