@@ -6,7 +6,9 @@ import (
 
 	"archivum/api"
 	"archivum/file"
+	"archivum/plan"
 	"archivum/rule"
+	"archivum/span"
 )
 
 // Entry is an entry about a file: its day, and the number of the certificate or of the sample (a departure has none).
@@ -50,12 +52,29 @@ type Term struct {
 	Due     int
 }
 
+// Class returns the class of a file on a day, or an empty string if it has none. Unlike file.Class it does not check all plan versions again for each file.
+func Class(r api.Registry, f api.File, day int) string {
+	from, to := versionOn(r, f.Opened), versionOn(r, day)
+	if from > to {
+		return ""
+	}
+	class := f.Class
+	for i := from; i < to; i++ {
+		class, _ = plan.Next(r.Plans[i], r.Plans[i+1], class)
+	}
+	return class
+}
+
+// versionOn returns the index of the plan version in force on a day, or -1.
+func versionOn(r api.Registry, day int) int {
+	return slices.IndexFunc(r.Plans, func(p api.Plan) bool { return span.Has(p.In, day) })
+}
+
 // Terms returns the terms of a file on a day, in the order of the rules.
 func Terms(r api.Registry, f api.File, day int) []Term {
-	// Without a class the code is empty, and no rule applies to that.
-	class, _ := file.Class(r.Plans, f, day)
 	var terms []Term
-	for _, id := range rule.Apply(r.Rules, class, day) {
+	// To an empty class no rule applies.
+	for _, id := range rule.Apply(r.Rules, Class(r, f, day), day) {
 		terms = append(terms, termOf(r.Rules[rule.Find(r.Rules, id)], f, day))
 	}
 	return terms

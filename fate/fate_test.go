@@ -6,6 +6,8 @@ import (
 
 	"archivum/api"
 	"archivum/fate"
+	"archivum/file"
+	"archivum/plan"
 )
 
 var always = api.Span{From: 0, Until: api.Forever}
@@ -77,5 +79,42 @@ func TestTerms(t *testing.T) {
 		if got := fate.Terms(r, f, x.day); !reflect.DeepEqual(got, x.want) {
 			t.Error(i, got)
 		}
+	}
+}
+
+// P11.2, P13.1: the class of a file on a day is that of file.Class, and empty where that has none.
+func TestClass(t *testing.T) {
+	titled := func(codes ...string) []api.Class {
+		var l []api.Class
+		for _, c := range codes {
+			l = append(l, api.Class{Code: c, Title: "Class " + c})
+		}
+		return l
+	}
+	r := api.Registry{Plans: []api.Plan{
+		{Version: 1, In: api.Span{From: 10, Until: 30}, Classes: titled("1", "1.1", "1.1.1", "2")},
+		{Version: 2, In: api.Span{From: 30, Until: 60}, Classes: titled("1", "1.1", "3"), Moved: []api.Moved{{From: "2", To: "1.1"}}},
+		{Version: 3, In: api.Span{From: 60, Until: 110}, Classes: titled("1", "3"), Moved: []api.Moved{{From: "1.1", To: "3"}}},
+	}}
+	found := 0
+	for _, opened := range []int{10, 29, 30, 59, 60, 109} {
+		for _, code := range []string{"1", "1.1", "1.1.1", "2", "3"} {
+			f := api.File{ID: 1, Opened: opened, Closed: api.Forever, Class: code}
+			if version := plan.At(r.Plans, opened); !plan.Has(r.Plans[version], code) {
+				continue
+			}
+			for _, day := range []int{0, 9, 10, 29, 30, 59, 60, 109, 110, api.MaxDay} {
+				want, e := file.Class(r.Plans, f, day)
+				if e == api.OK {
+					found++
+				}
+				if got := fate.Class(r, f, day); got != want {
+					t.Error(f, day, got, want)
+				}
+			}
+		}
+	}
+	if found != 2*(4*6+3*4+2*2) {
+		t.Error(found)
 	}
 }
