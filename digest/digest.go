@@ -5,12 +5,11 @@ import (
 	"math/bits"
 
 	"archivum/api"
+	"archivum/hex"
 )
 
 // blockSize is how many bytes are taken in between two permutations.
 const blockSize = 136
-
-const hexDigits = "0123456789abcdef"
 
 // roundConstants has one constant for each round.
 var roundConstants = [24]uint64{
@@ -89,39 +88,16 @@ func Hex(digest string) (string, api.Errno) {
 	if len(digest) != api.DigestSize {
 		return "", api.ErrArg
 	}
-	text := make([]byte, 0, 2*api.DigestSize)
-	for i := range api.DigestSize {
-		text = append(text, hexDigits[digest[i]>>4], hexDigits[digest[i]&15])
-	}
-	return string(text), api.OK
+	return hex.Format(digest), api.OK
 }
 
 // Parse returns the digest with a text.
 func Parse(text string) (string, api.Errno) {
-	if len(text) != 2*api.DigestSize {
+	digest, ok := hex.Parse(text)
+	if !ok || len(digest) != api.DigestSize {
 		return "", api.ErrSyntax
 	}
-	var data [api.DigestSize]byte
-	for i := range data {
-		high, okHigh := hexValue(text[2*i])
-		low, okLow := hexValue(text[2*i+1])
-		if !okHigh || !okLow {
-			return "", api.ErrSyntax
-		}
-		data[i] = high<<4 | low
-	}
-	return string(data[:]), api.OK
-}
-
-// hexValue admits small letters only, so that each digest has one text.
-func hexValue(digit byte) (byte, bool) {
-	switch {
-	case '0' <= digit && digit <= '9':
-		return digit - '0', true
-	case 'a' <= digit && digit <= 'f':
-		return digit - 'a' + 10, true
-	}
-	return 0, false
+	return digest, api.OK
 }
 
 // Hash takes in strings. The bytes of an unfinished block are in the state already, since a block is only exclusive-ored with it.

@@ -52,7 +52,7 @@ func Digest(c api.Certificate) (string, api.Errno) {
 
 func hasDigest(c api.Certificate) bool {
 	last := len(c.Files) - 1
-	return number.IsID(c.Number) && number.IsID(c.Proposal) && isDay(c.Day) &&
+	return number.IsID(c.Number) && number.IsID(c.Proposal) && number.IsDay(c.Day) &&
 		number.From(last+1, 1, api.MaxFiles) && list.Increase(c.Files, cmp.Compare) && c.Files[0] >= 1 && c.Files[last] <= api.MaxID &&
 		len(c.Before) == api.DigestSize
 }

@@ -58,8 +58,6 @@ func clerkOn(l []api.Clerk, id, day int) (api.Clerk, bool) {
 	return l[i], true
 }
 
-func isDay(day int) bool { return number.From(day, 0, api.MaxDay) }
-
 // checkingProposals returns a function that checks the proposals of a registry, one after the other.
 func checkingProposals(r api.Registry) func(before []api.Proposal, p api.Proposal) api.Errno {
 	// until has the day for each file from which on it can be proposed.
@@ -97,7 +95,7 @@ func checkHead(r api.Registry, before []api.Proposal, p api.Proposal) api.Errno 
 	last := len(before) - 1
 	_, ok := clerkOn(r.Clerks, p.Clerk, p.Day)
 	switch {
-	case !number.IsID(p.ID) || !isDay(p.Day) || !number.From(p.Withdrawn, p.Day, api.MaxDay) && p.Withdrawn != api.Forever:
+	case !number.IsID(p.ID) || !number.IsDay(p.Day) || !number.From(p.Withdrawn, p.Day, api.MaxDay) && p.Withdrawn != api.Forever:
 		return api.ErrRange
 	case last >= 0 && (p.ID <= before[last].ID || p.Day < before[last].Day):
 		return api.ErrOrder

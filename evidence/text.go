@@ -33,17 +33,17 @@ func hasLine(s api.Step) bool {
 	}
 	switch s.Kind {
 	case api.StepOpen:
-		return isDay(s.First) && (isDay(s.Last) || s.Last == api.Forever)
+		return number.IsDay(s.First) && (number.IsDay(s.Last) || s.Last == api.Forever)
 	case api.StepDone:
-		return number.From(s.Number, doneDestroyed, doneTransferred) && isDay(s.First)
+		return number.From(s.Number, doneDestroyed, doneTransferred) && number.IsDay(s.First)
 	case api.StepClass, api.StepRule, api.StepHold:
 		return true
 	case api.StepTrigger:
-		return isDay(s.First) && isDay(s.Last)
+		return number.IsDay(s.First) && number.IsDay(s.Last)
 	case api.StepDue:
-		return isDay(s.Last)
+		return number.IsDay(s.Last)
 	case api.StepSelected:
-		return isDay(s.First)
+		return number.IsDay(s.First)
 	case api.StepEnd:
 		return isEnd(s)
 	}
@@ -53,11 +53,9 @@ func hasLine(s api.Step) bool {
 func isEnd(s api.Step) bool {
 	return number.From(s.Number, api.VerdictNone, api.VerdictTransfer) &&
 		number.From(s.First, 0, api.MaxID) &&
-		isDay(s.Last) &&
+		number.IsDay(s.Last) &&
 		(s.First != 0 || s.Last == 0)
 }
-
-func isDay(n int) bool { return number.From(n, 0, api.MaxDay) }
 
 // hasText returns whether a step has a class as its text if it needs one, and otherwise no text.
 func hasText(s api.Step) bool {

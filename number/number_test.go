@@ -81,3 +81,43 @@ func TestParseStrings(t *testing.T) {
 		}
 	}
 }
+
+// P15.1, P16.1: days are integers from 0 to MaxDay.
+func TestIsDay(t *testing.T) {
+	for n, want := range map[int]bool{
+		math.MinInt: false, -1: false, 0: true, 1: true, api.MaxDay: true, api.Forever: false, api.Forever + 1: false, math.MaxInt: false,
+	} {
+		if got := number.IsDay(n); got != want {
+			t.Error(n, got)
+		}
+	}
+}
+
+// P16.4: each number of up to ten digits has one text, which is decimal and has no leading zeros.
+func TestDecimal(t *testing.T) {
+	for _, n := range []int{0, 1, 9, 10, 99, 100, api.MaxID, api.MaxID + 1, 1 << 32, 9999999999} {
+		if got, ok := number.Decimal(strconv.Itoa(n)); got != n || !ok {
+			t.Error(n, got, ok)
+		}
+	}
+	form := regexp.MustCompile(`^(0|[1-9][0-9]{0,9})$`)
+	r := rand.New(rand.NewSource(10))
+	for range 20000 {
+		text := ""
+		for range r.Intn(13) {
+			text += string("01234567899999-+ ._"[r.Intn(19)])
+		}
+		want, valid := 0, form.MatchString(text)
+		if valid {
+			want, _ = strconv.Atoi(text)
+		}
+		if got, ok := number.Decimal(text); got != want || ok != valid {
+			t.Errorf("%q %v %v", text, got, ok)
+		}
+	}
+	for _, text := range []string{"", "10000000000", "00000000001", strings.Repeat("9", 19), strings.Repeat("9", 1000), "-1", "+1", "-0", "0_0", "\u0663"} {
+		if got, ok := number.Decimal(text); got != 0 || ok {
+			t.Errorf("%q %v %v", text, got, ok)
+		}
+	}
+}

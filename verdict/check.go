@@ -17,13 +17,21 @@ import (
 // Check returns the first fault of a registry.
 func Check(r api.Registry) api.Errno {
 	return cmp.Or(
-		errorOf(office.Check(r.Offices)),
-		errorOf(plan.Check(r.Plans)),
-		errorOf(file.Check(r.Offices, r.Plans, r.Files)),
+		checkFiles(r),
 		errorOf(rule.Check(r.Rules)),
 		errorOf(hold.Check(r.Holds)),
 		checkEntries(r),
 	)
+}
+
+// checkFiles checks the offices, the plan versions and the files of a registry.
+func checkFiles(r api.Registry) api.Errno {
+	e := errorOf(file.Check(r.Offices, r.Plans, r.Files))
+	if e != api.ErrArg {
+		return e
+	}
+	// No file has this error by itself. It takes long to check large plan versions, so they are not checked beforehand.
+	return cmp.Or(errorOf(office.Check(r.Offices)), errorOf(plan.Check(r.Plans)))
 }
 
 func errorOf(_ int, e api.Errno) api.Errno { return e }
@@ -72,7 +80,7 @@ func entriesOf(r api.Registry) (selections, certificates, departures []entry) {
 // checkEntry checks the entry that follows some others of its list.
 func checkEntry(known map[int]bool, before []entry, x entry) api.Errno {
 	switch {
-	case !number.IsID(x.number) || !isDay(x.day):
+	case !number.IsID(x.number) || !number.IsDay(x.day):
 		return api.ErrRange
 	case slices.ContainsFunc(x.files, func(id int) bool { return !known[id] }):
 		return api.ErrNotFound
