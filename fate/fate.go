@@ -1,4 +1,4 @@
-// Package fate says what has become of a file, and what the rules say about it: see the definitions of shared/doc/11-verdict.md. All registries are ones without a fault.
+// Package fate says what has become of a file, and what the rules say about it: see the definitions of shared/doc/11-verdict.md. Registries are ones without a fault, but Destroyed, Transferred and Selected take any.
 package fate
 
 import (

@@ -1,6 +1,7 @@
 package fate_test
 
 import (
+	"math"
 	"reflect"
 	"testing"
 
@@ -51,6 +52,36 @@ func TestEntries(t *testing.T) {
 		{fate.Selected, 7, api.MaxDay, fate.Entry{}, false},
 	} {
 		if got, ok := x.find(some(), x.id, x.by); got != x.want || ok != x.ok {
+			t.Error(i, got, ok)
+		}
+	}
+}
+
+// P15.3: the same for registries with faults, and for all numbers as days.
+func TestEntriesOfAny(t *testing.T) {
+	r := api.Registry{
+		Selections:   []api.Selection{{Sample: -1, Day: math.MaxInt, Files: []int{3, 3}}, {Sample: 2, Day: -5, Files: []int{3}}},
+		Certificates: []api.Certificate{{Number: 9, Day: 70, Files: []int{4, 1}}, {Number: 9, Day: 20, Files: []int{1}}, {Day: math.MaxInt, Files: []int{-6}}},
+		Departures:   []api.Departure{{File: 7, Day: 60}, {File: 7, Day: 30}, {File: 0, Day: math.MinInt}},
+	}
+	for i, x := range []struct {
+		find   func(r api.Registry, id, by int) (fate.Entry, bool)
+		id, by int
+		want   fate.Entry
+		ok     bool
+	}{
+		{fate.Destroyed, 1, math.MaxInt, fate.Entry{Number: 9, Day: 70}, true},
+		{fate.Destroyed, 1, 69, fate.Entry{Number: 9, Day: 20}, true},
+		{fate.Destroyed, 1, math.MinInt, fate.Entry{}, false},
+		{fate.Destroyed, -6, math.MaxInt, fate.Entry{Day: math.MaxInt}, true},
+		{fate.Transferred, 7, math.MaxInt, fate.Entry{Day: 60}, true},
+		{fate.Transferred, 7, 59, fate.Entry{Day: 30}, true},
+		{fate.Transferred, 0, math.MinInt, fate.Entry{Day: math.MinInt}, true},
+		{fate.Transferred, 1, math.MaxInt, fate.Entry{}, false},
+		{fate.Selected, 3, math.MaxInt, fate.Entry{Number: -1, Day: math.MaxInt}, true},
+		{fate.Selected, 3, 0, fate.Entry{Number: 2, Day: -5}, true},
+	} {
+		if got, ok := x.find(r, x.id, x.by); got != x.want || ok != x.ok {
 			t.Error(i, got, ok)
 		}
 	}
